@@ -49,10 +49,10 @@ func induct(t api.Table, e api.Term, k int, p api.Term) (*induction, argument, a
 		return nil, argument{}, api.ErrArity
 	}
 	in := &induction{elim: e}
-	return in, argument{shapeOf(d, d.Cons[k].Arg), typ, bind(nil, in.given(p))}, api.OK
+	return in, argument{shapeOf(d, d.Cons[k].Arg).counted(), typ, bind(nil, in.given(p))}, api.OK
 }
 
-// hypotheses makes H of an argument type and an element of it. What is no argument type counts as plain.
+// hypotheses makes H of an argument type and an element of it.
 func (in *induction) hypotheses(of argument, a lazy, depth int) api.Term {
 	if in.isFull() {
 		return api.Term{}

@@ -2,6 +2,7 @@ package table_test
 
 import (
 	"math/rand"
+	"strings"
 	"testing"
 
 	"tenet/api"
@@ -26,11 +27,9 @@ func (x part) under(i int) part {
 	return part{x.declared.L[i], x.now.L[i]}
 }
 
-// counts reports which of the cases of H and V a part is: itself by its own node, and plain where it is no argument type by its own node.
+// counts reports which of the cases of H and V a part is: plain, too, where it is no argument type.
 func (x part) counts(d api.Decl) int {
-	bad := !isArgument(d, x.declared) && len(reason(d, x.declared)) == 0
-	tied := x.declared.Op == api.TSigma && len(x.declared.L) == 2 && isTied(d, x.declared)
-	if !occurs(d.Name, x.declared) || bad || tied {
+	if !occurs(d.Name, x.declared) || !isArgument(d, x.declared) {
 		return api.TUnit
 	}
 	return x.declared.Op
@@ -181,11 +180,28 @@ func TestHypothesesOfTheDeclaredArg(t *testing.T) {
 		// What is no argument type counts as plain.
 		{"(pi 0 (data @D star) unit)", elim, "star", "#1", "unit", "star"}, {"(pi 2 unit (data @D star))", elim, "star", "#1", "unit", "star"}, {"(app 0 #0 (data @D star))", proof, "star", "#1", "true", "trivial"}, {"(data @D (data @D star))", elim, "star", "#1", "unit", "star"}, {"(data @D{0} star)", elim, "star", "#1", "unit", "star"}, {"(con @D 0 star star)", elim, "star", "#1", "unit", "star"},
 		{"(sig 1 (data @D star) unit)", elim, "star", "#1", "unit", "star"}, {"(sig 2 (data @D star) (data @D star))", elim, "star", "#1", "unit", "star"}, {"(sig 0 (data @D star) (data @D #0))", elim, "star", "#1", "unit", "star"}, {"(sig 0 (data @D star) (app 0 #1 #0))", elim, "star", "#1", "unit", "star"},
-		{"(sig 0 (data @D star) (app 0 star (data @D star)))", elim, "star", "#1", "(sig 0 (fst #1) unit)", "(pair 0 (fst #1) unit (elim @D 0 #0 #3 star (fst #1)) star)"},
-		{"(sig 0 (pi 0 (data @D star) unit) (data @D star))", proof, "star", "#1", "(sig 3 true (snd #2))", "(pair 3 true (snd #2) trivial (elim @D 1 #0 #3 star (snd #1)))"},
-		{"(pi 1 unit (fst (data @D star)))", elim, "star", "#1", "(pi 1 unit unit)", "(lam 1 unit star)"},
 	} {
 		x.run(t, family("D", "unit", x.arg))
+	}
+}
+
+// TestHypothesesAroundNoArgumentType has pair and function types around a part that is no argument type: they are none either.
+func TestHypothesesAroundNoArgumentType(t *testing.T) {
+	bad := []string{"(fst (data @D star))", "(pi 0 (data @D star) unit)", "(pi 2 unit (data @D star))", "(data @D (data @D star))", "(data @D{0} star)", "(con @D 0 star star)", "(sig 1 (data @D star) unit)", "(sig 2 unit (data @D star))", "(sig 0 (data @D star) (data @D #0))"}
+	around := []string{"BAD", "(sig 0 (data @D star) BAD)", "(sig 0 BAD (data @D star))", "(sig 0 unit BAD)", "(sig 0 BAD unit)", "(sig 0 BAD BAD)", "(pi 0 unit BAD)", "(pi 1 unit BAD)", "(pi 0 unit (pi 1 unit BAD))", "(sig 0 (sig 0 (data @D star) unit) (pi 0 unit (sig 0 unit BAD)))", "(sig 0 (pi 0 unit (sig 0 BAD (data @D star))) (data @D star))"}
+	for _, x := range bad {
+		for _, y := range around {
+			d := family("D", "unit", strings.ReplaceAll(y, "BAD", x))
+			induct{y, "(elim @D 0 #0 #3 star star)", "star", "#1", "unit", "star"}.run(t, d)
+			induct{y, "(elim @D 1 #0 #3 star star)", "star", "#1", "true", "trivial"}.run(t, d)
+		}
+	}
+	// Another constructor has its hypotheses all the same.
+	tab := tableOf(family("D", "unit", "(pi 0 unit (data @D star))", "(sig 0 (data @D star) (fst (data @D star)))"))
+	e := parse("(elim @D 0 #0 star star star star)")
+	for k, want := range []string{"(pi 0 unit (app 0 #2 #0))", "unit"} {
+		h, code := table.Hypotheses(tab, e, k, parse("star"), parse("#1"))
+		isTerm(t, "Hypotheses", h, code, want, api.OK)
 	}
 }
 

@@ -132,3 +132,11 @@ func (s shape) reason(path []int) error {
 	}
 	return nil
 }
+
+// counted returns the whole shape of an Arg as hypotheses count it: what is no argument type counts as plain. A pair or function type around such a part is none either, so one such part makes the whole Arg plain.
+func (s shape) counted() shape {
+	if s.reason(nil) != nil {
+		return shape{}
+	}
+	return s
+}
