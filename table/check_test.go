@@ -230,7 +230,7 @@ func TestCheckOfTheFamilyItself(t *testing.T) {
 		want api.Errno
 	}{
 		{"(data @D{u0;u1} star)", api.OK}, {"(data @D{u0} star)", api.ErrArity}, {"(data @D star)", api.ErrArity}, {"(data @D{u0;u1;u1} star)", api.ErrArity}, {"(data @D{u1;u0} star)", api.ErrPositive}, {"(data @D{u0;0} star)", api.ErrPositive}, {"(data @D{u0;u1} (data @D{u0;u1} star))", api.ErrPositive},
-		{"(con @D{u0;u1} 0 star star)", api.ErrLater}, {"(elim @D{u0;u1} 0 star star star star)", api.ErrLater}, {"@D{u0;u1}", api.ErrLater}, {"(sig 0 (data @D{u0;u1} (con @D{u0;u1} 0 star star)) unit)", api.ErrLater},
+		{"(con @D{u0;u1} 0 star star)", api.ErrLater}, {"(elim @D{u0;u1} 0 star star star star)", api.ErrLater}, {"@D{u0;u1}", api.ErrLater}, {"@D", api.ErrLater}, {"(pi 0 @D (data @D{u0;u1} star))", api.ErrLater}, {"(sig 0 unit (pi 0 (data @D{u0;u1} star) @D))", api.ErrLater}, {"(sig 0 (data @D{u0;u1} (con @D{u0;u1} 0 star star)) unit)", api.ErrLater},
 	} {
 		d := leveled(family("D", "unit", x.s), 2)
 		isLast(t, x.s, d, x.want)

@@ -118,9 +118,12 @@ func basic() api.Table {
 	)
 }
 
-// occurs reports whether a name stands in a term.
+// occurs reports whether a family occurs in a term: at a node that names families.
 func occurs(name string, t api.Term) bool {
-	return slices.Contains(term.Names(t), name)
+	if t.S == name && (t.Op == api.TData || t.Op == api.TCon || t.Op == api.TElim) {
+		return true
+	}
+	return slices.ContainsFunc(t.L, func(part api.Term) bool { return occurs(name, part) })
 }
 
 // has reports whether a bound variable occurs in a term.

@@ -177,6 +177,8 @@ func TestHypothesesOfTheDeclaredArg(t *testing.T) {
 		{"(pi 0 #0 (data @D star))", elim, "(data @D star)", "#1", "(pi 0 (data @D star) (app 0 #2 #0))", "(lam 0 (data @D star) (elim @D 0 #0 #4 star (app 0 #2 #0)))"},
 		{"(data @D #0)", elim, "(data @D star)", "#1", "#1", "(elim @D 0 #0 #3 (data @D star) #1)"},
 		{"(pi 2 unit #1)", proof, "(data @D star)", "#1", "true", "trivial"},
+		// A constant with the name of the family is no occurrence of it.
+		{"@D", elim, "star", "#1", "unit", "star"}, {"(pi 0 @D unit)", proof, "star", "#1", "true", "trivial"}, {"(data @D @D)", elim, "star", "#1", "#1", "(elim @D 0 #0 #3 @D #1)"}, {"(pi 0 @D (data @D star))", elim, "star", "#1", "(pi 0 @D (app 0 #2 #0))", "(lam 0 @D (elim @D 0 #0 #4 star (app 0 #2 #0)))"}, {"(sig 1 @D (data @D star))", elim, "star", "#1", "(sig 0 unit (snd #2))", "(pair 0 unit (snd #2) star (elim @D 0 #0 #3 star (snd #1)))"},
 		// What is no argument type counts as plain.
 		{"(pi 0 (data @D star) unit)", elim, "star", "#1", "unit", "star"}, {"(pi 2 unit (data @D star))", elim, "star", "#1", "unit", "star"}, {"(app 0 #0 (data @D star))", proof, "star", "#1", "true", "trivial"}, {"(data @D (data @D star))", elim, "star", "#1", "unit", "star"}, {"(data @D{0} star)", elim, "star", "#1", "unit", "star"}, {"(con @D 0 star star)", elim, "star", "#1", "unit", "star"},
 		{"(sig 1 (data @D star) unit)", elim, "star", "#1", "unit", "star"}, {"(sig 2 (data @D star) (data @D star))", elim, "star", "#1", "unit", "star"}, {"(sig 0 (data @D star) (data @D #0))", elim, "star", "#1", "unit", "star"}, {"(sig 0 (data @D star) (app 0 #1 #0))", elim, "star", "#1", "unit", "star"},

@@ -23,6 +23,8 @@ func TestPositiveTakes(t *testing.T) {
 	for _, s := range []string{
 		"unit", "#0", "(data @E star)", "(pi 3 unit true)", "SELF", "(data @D (fst #0))", "(pi 0 unit SELF)", "(pi 1 true SELF)", "(pi 0 (pi 2 unit true) (pi 1 true (pi 0 #1 SELF)))", "(sig 0 SELF SELF)", "(sig 0 unit (data @D #0))", "(pi 0 unit (data @D #0))",
 		"(sig 1 true (data @D #0))", "(sig 2 SELF (eq 0 unit star star))", "(sig 2 SELF #1)", "(sig 3 true true)", "(sig 0 SELF (sig 0 SELF SELF))", "(sig 0 (sig 0 SELF (pi 0 unit SELF)) (sig 0 unit (data @D #0)))", "(sig 0 SELF (lam 0 unit #0))", "(sig 0 SELF (elim @Nat 0 #0 #0 star star))", "(sig 0 SELF (pi 0 #1 (data @D #0)))", "(sig 0 unit (sig 0 SELF (data @D #1)))",
+		// A constant is no occurrence of the family, also one with its name.
+		"@D", "@D{0}", "(pi 0 @D unit)", "(pi 2 unit @D)", "(pi 0 @D SELF)", "(sig 1 @D unit)", "(sig 3 @D @D)", "(sig 0 @D (data @D #0))", "(sig 1 @D SELF)", "(sig 2 SELF @D)", "(fst @D)", "(data @D @D)", "(data @E @D)",
 	} {
 		isFault(t, s, table.Positive(api.Table{}, family("D", "unit", "unit", s, "unit")), api.OK, nil)
 	}
@@ -35,6 +37,7 @@ func TestPositiveTellsTheReason(t *testing.T) {
 	}{
 		{"(pi 0 SELF unit)", nil}, {"(pi 2 unit SELF)", nil}, {"(pi 3 true SELF)", nil}, {"(pi 0 SELF SELF)", nil}, {"(pi 0 (pi 0 SELF unit) SELF)", nil}, {"(pi 2 SELF (pi 0 SELF unit))", nil}, {"(pi 0 unit (pi 0 unit (pi 0 SELF unit)))", []int{1, 1}},
 		{"(app 0 #0 SELF)", nil}, {"(fst (con @D 0 star star))", nil}, {"(con @D 0 star star)", nil}, {"(elim @D 0 unit star star)", nil}, {"(data @E SELF)", nil}, {"(data @E (con @D 0 star star))", nil}, {"(lam 0 unit SELF)", nil}, {"(eq 0 SELF #0 #0)", nil}, {"(quo 0 SELF true trivial trivial trivial)", nil},
+		{"(pi 0 SELF @D)", nil}, {"(app 0 @D SELF)", nil}, {"(sig 0 @D (pi 2 unit SELF))", []int{1}}, {"(sig 0 SELF (app 0 @D #0))", nil}, {"(data @D (app 0 @D SELF))", nil}, {"(data @D{0} @D)", nil},
 		{"(data @D SELF)", nil}, {"(data @D{0} star)", nil}, {"(data @D (lam 0 SELF star))", nil}, {"(pi 0 unit (data @D{u0} star))", []int{1}}, {"(sig 0 unit (data @D SELF))", []int{1}},
 		{"(sig 1 SELF unit)", nil}, {"(sig 2 unit SELF)", nil}, {"(sig 3 SELF SELF)", nil}, {"(sig 3 true SELF)", nil}, {"(sig 2 (pi 0 SELF unit) SELF)", nil}, {"(sig 1 (pi 0 SELF unit) SELF)", nil}, {"(sig 2 (pi 0 SELF unit) unit)", []int{0}}, {"(sig 1 true (pi 0 SELF unit))", []int{1}},
 		{"(sig 0 (pi 0 SELF unit) (pi 0 SELF unit))", []int{0}}, {"(sig 0 SELF (pi 0 SELF unit))", []int{1}}, {"(sig 0 unit (sig 0 (pi 0 unit (app 0 #0 SELF)) SELF))", []int{1, 0, 1}},

@@ -38,7 +38,7 @@ func (f *shaper) shape(t *api.Term) shape {
 	if place := len(f.occurs) - 1 - t.N; t.Op == api.TVar && t.N >= 0 && place >= 0 {
 		f.occurs[place] = true
 	}
-	isPlain := !isNamed(t.Op) || t.S != f.family
+	isPlain := !f.isFamily(t)
 	parts := make([]shape, len(t.L))
 	for i := range t.L {
 		parts[i] = f.part(t, i)
@@ -48,6 +48,11 @@ func (f *shaper) shape(t *api.Term) shape {
 		return shape{}
 	}
 	return shape{kind: f.kind(t, parts), parts: parts}
+}
+
+// isFamily reports whether a node is an occurrence of the family. A TConst is none, whatever its name is: it names a definition or assumption.
+func (f *shaper) isFamily(t *api.Term) bool {
+	return isNamed(t.Op) && t.Op != api.TConst && t.S == f.family
 }
 
 // part returns the shape of a part of a node.
@@ -64,7 +69,7 @@ func (f *shaper) part(t *api.Term, i int) shape {
 // kind returns what a node is in which the family occurs.
 func (f *shaper) kind(t *api.Term, parts []shape) int {
 	switch {
-	case t.Op == api.TData && len(parts) == 1 && t.S == f.family:
+	case t.Op == api.TData && len(parts) == 1 && f.isFamily(t):
 		if f.ownLevels(t.U) && parts[0].kind == plain {
 			return recursive
 		}

@@ -14,8 +14,8 @@ import (
 // P4.5
 
 func TestRecursive(t *testing.T) {
-	tab := with(basic(), family("D", "NAT", "(sig 0 NAT SELF)", "unit", "(pi 0 SELF unit)", "(data @Vec #0)", "(app 0 #0 (con @D 0 star star))", "(elim @D 0 star star star)", "(data @D{0} #0)"), family("D", "unit"))
-	for name, want := range map[string][]int{"Nat": {1}, "Bool": nil, "Vec": {1}, "Tree": {1}, "Box": nil, "D": {0, 2, 4, 5, 6}} {
+	tab := with(basic(), family("D", "NAT", "(sig 0 NAT SELF)", "unit", "(pi 0 SELF unit)", "(data @Vec #0)", "(app 0 #0 (con @D 0 star star))", "(elim @D 0 star star star)", "(data @D{0} #0)"), family("D", "unit"), family("C", "unit", "@C", "(pi 0 @C unit)", "(sig 0 @C (data @C star))", "(sig 1 @C unit)", "(fst @C)", "(elim @C 0 star star star)"))
+	for name, want := range map[string][]int{"Nat": {1}, "Bool": nil, "Vec": {1}, "Tree": {1}, "Box": nil, "D": {0, 2, 4, 5, 6}, "C": {2, 5}} {
 		if l, e := table.Recursive(tab, name); e != api.OK || !slices.Equal(l, want) {
 			t.Errorf("Recursive of %s is %v, %v, want %v", name, l, e, want)
 		}
