@@ -273,9 +273,11 @@ func wide(n int) api.Term {
 
 // plainTerm returns a small term without names, with variables below free.
 func plainTerm(r *rand.Rand, free int) api.Term {
-	switch r.Intn(6) {
+	switch r.Intn(7) {
 	case 0:
 		return node(api.TPi, plainTerm(r, free), parse("unit"))
+	case 4:
+		return node(api.TLam, plainTerm(r, free), plainTerm(r, free+1))
 	case 1:
 		return api.Term{Op: api.TEq, U: []api.Level{u(r.Intn(2))}, L: []api.Term{parse("unit"), plainTerm(r, free), parse("star")}}
 	case 2:
@@ -313,6 +315,18 @@ func goodArg(r *rand.Rand, d api.Decl, free, levels int) api.Term {
 		mark |= 2 * r.Intn(2)
 	}
 	return api.Term{Op: api.TSigma, N: mark, L: []api.Term{first, second}}
+}
+
+// far returns a term in which some of the free variables are among the greatest there are, or among those that are greater still. Under says how many binders there are around it.
+func far(r *rand.Rand, t api.Term, under int) api.Term {
+	t = cloned(t)
+	if t.Op == api.TVar && t.N >= under && r.Intn(3) > 0 {
+		t.N = 1<<31 + 2 - r.Intn(9)
+	}
+	for i := range t.L {
+		t.L[i] = far(r, t.L[i], under+term.Binds(t, i))
+	}
+	return t
 }
 
 // itself is a family at a parameter.

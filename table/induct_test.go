@@ -153,6 +153,8 @@ func TestHypothesesUnderBinders(t *testing.T) {
 		{"(pi 0 unit (pi 1 #1 (data @D (app 0 #0 #1))))", "(elim @D 0 (app 0 #1 #0) #3 star star)", "#5", "#6", "(pi 0 unit (pi 1 #6 (app 0 (app 0 #0 #1) (app 1 (app 0 #8 #1) #0))))", "(lam 0 unit (lam 1 #6 (elim @D 0 (app 0 #1 #0) #5 (app 0 #0 #1) (app 1 (app 0 #8 #1) #0))))"},
 		{"(sig 0 #0 (pi 0 #0 (data @D (app 0 #1 #2))))", "(elim @D 0 (pi 0 #1 #1) #3 star star)", "#5", "#6", "(sig 0 unit (pi 0 (fst #7) (pi 0 (app 0 (fst #8) #7) (app 0 (snd #9) #1))))", "(pair 0 unit (pi 0 (fst #7) (pi 0 (app 0 (fst #8) #7) (app 0 (snd #9) #1))) star (lam 0 (fst #6) (elim @D 0 (pi 0 #1 #1) #4 (app 0 (fst #7) #6) (app 0 (snd #7) #0))))"},
 		{"(pi 0 unit (sig 0 #1 (data @D (app 0 #1 #0))))", "(elim @D 0 (app 0 #1 #0) #3 star star)", "#5", "#6", "(pi 0 unit (sig 0 unit (app 0 (app 0 #1 (fst (app 0 #8 #1))) (snd (app 0 #8 #1)))))", "(lam 0 unit (pair 0 unit (app 0 (app 0 #1 (fst (app 0 #8 #1))) (snd (app 0 #8 #1))) star (elim @D 0 (app 0 #1 #0) #4 (app 0 #0 (fst (app 0 #7 #0))) (snd (app 0 #7 #0)))))"},
+		// A value under a binder of the domain, behind two function and pair types.
+		{"(sig 0 unit (pi 0 unit (sig 0 unit (pi 0 (lam 0 unit #1) SELF))))", "(elim @D 0 #3 star star star)", "#5", "#6", "(sig 0 unit (pi 0 unit (sig 0 unit (pi 0 (lam 0 unit (fst (app 0 (snd #10) #2))) #5))))", "(pair 0 unit (pi 0 unit (sig 0 unit (pi 0 (lam 0 unit (fst (app 0 (snd #10) #2))) #5))) star (lam 0 unit (pair 0 unit (pi 0 (lam 0 unit (fst (app 0 (snd #9) #2))) #4) star (lam 0 (lam 0 unit (fst (app 0 (snd #8) #1))) (elim @D 0 #5 star star (app 0 (snd (app 0 (snd #8) #1)) #0))))))"},
 	} {
 		x.run(t, family("D", "unit", x.arg))
 	}
@@ -276,6 +278,9 @@ func TestHypothesesAreTheDefinition(t *testing.T) {
 		if r.Intn(4) == 0 {
 			p = itself(d, p)
 		}
+		if r.Intn(3) == 0 {
+			p, a, d.Cons[1].Arg = far(r, p, 0), far(r, a, 0), far(r, d.Cons[1].Arg, r.Intn(2))
+		}
 		tab := tableOf(assume("E", "prop"), d)
 		x := whole(t, d, e.U, 1, p)
 		want := hypotheses(d, x, a, e)
@@ -291,6 +296,68 @@ func TestHypothesesAreTheDefinition(t *testing.T) {
 	for _, op := range []int{api.TPi, api.TSigma, api.TUnit, api.TTrue, api.TApp} {
 		if kinds[op] < 100 {
 			t.Errorf("%d of the hypotheses have the Op %d", kinds[op], op)
+		}
+	}
+}
+
+// farTerm reads a term in which ?10 stands for the greatest variable, and the other holes for the numbers before and behind it.
+func farTerm(s string) api.Term {
+	var set func(t api.Term) api.Term
+	set = func(t api.Term) api.Term {
+		if t.Op == api.THole {
+			return api.Term{Op: api.TVar, N: 1<<31 - 10 + t.N}
+		}
+		for i := range t.L {
+			t.L[i] = set(t.L[i])
+		}
+		return t
+	}
+	return set(parse(s))
+}
+
+// TestHypothesesOfFarVariables has variables that become greater than 2^31 by one step, and are no variables for the next one.
+func TestHypothesesOfFarVariables(t *testing.T) {
+	const self, element, parameter, both = "(data @D star)", "#0", "#1", "(pi 0 unit (pi 0 #1 #3))"
+	for _, x := range []struct {
+		arg, motive, p, a string
+		h, v              string
+	}{
+		// The element, shifted by one under each function type.
+		{"(pi 0 unit " + self + ")", element, "star", "?10", "(pi 0 unit (app 0 ?11 #0))", "(lam 0 unit (elim @D 0 #0 star star (app 0 ?11 #0)))"},
+		{"(pi 0 unit (pi 0 unit " + self + "))", element, "star", "?8", "(pi 0 unit (pi 0 unit (app 0 (app 0 ?10 #1) #0)))", "(lam 0 unit (lam 0 unit (elim @D 0 #0 star star (app 0 (app 0 ?10 #1) #0))))"},
+		{"(pi 0 unit (pi 0 unit " + self + "))", element, "star", "?9", "(pi 0 unit (pi 0 unit (app 0 (app 0 ?11 #1) #0)))", "(lam 0 unit (lam 0 unit (elim @D 0 #0 star star (app 0 (app 0 ?11 #1) #0))))"},
+		{"(pi 0 unit (pi 0 unit " + self + "))", element, "star", "?10", "(pi 0 unit (pi 0 unit (app 0 (app 0 ?11 #1) #0)))", "(lam 0 unit (lam 0 unit (elim @D 0 #0 star star (app 0 (app 0 ?11 #1) #0))))"},
+		{"(pi 0 unit (pi 0 unit " + self + "))", element, "star", "?11", "(pi 0 unit (pi 0 unit (app 0 (app 0 ?11 #1) #0)))", "(lam 0 unit (lam 0 unit (elim @D 0 #0 star star (app 0 (app 0 ?11 #1) #0))))"},
+		// The parameter, shifted at once by all binders that it is put under.
+		{"(pi 0 unit (pi 0 unit (data @D #2)))", parameter, "?9", "star", "(pi 0 unit (pi 0 unit ?11))", "(lam 0 unit (lam 0 unit (elim @D 0 #1 star ?11 (app 0 (app 0 star #1) #0))))"},
+		{"(pi 0 unit (pi 0 unit (data @D #2)))", parameter, "?10", "star", "(pi 0 unit (pi 0 unit ?12))", "(lam 0 unit (lam 0 unit (elim @D 0 #1 star ?12 (app 0 (app 0 star #1) #0))))"},
+		{"(pi 0 unit (pi 0 unit (data @D #2)))", parameter, "?11", "star", "(pi 0 unit (pi 0 unit ?11))", "(lam 0 unit (lam 0 unit (elim @D 0 #1 star ?11 (app 0 (app 0 star #1) #0))))"},
+		// The parameter and then a first part, filled in one after the other.
+		{"(sig 0 unit (data @D #1))", parameter, "?9", "star", "(sig 0 unit ?10)", "(pair 0 unit ?10 star (elim @D 0 #1 star ?9 (snd star)))"},
+		{"(sig 0 unit (data @D #1))", parameter, "?10", "star", "(sig 0 unit ?11)", "(pair 0 unit ?11 star (elim @D 0 #1 star ?11 (snd star)))"},
+		{"(sig 0 unit (pi 0 unit (data @D #1)))", parameter, "star", "?10", "(sig 0 unit (pi 0 unit (fst ?11)))", "(pair 0 unit (pi 0 unit (fst ?11)) star (lam 0 unit (elim @D 0 #1 star (fst ?11) (app 0 (snd ?11) #0))))"},
+		// Second types, each one shifted when it is made.
+		{"(sig 0 unit (sig 0 unit " + self + "))", element, "star", "?9", "(sig 0 unit (sig 0 unit (snd (snd ?11))))", "(pair 0 unit (sig 0 unit (snd (snd ?11))) star (pair 0 unit (snd (snd ?10)) star (elim @D 0 #0 star star (snd (snd ?9)))))"},
+		{"(sig 0 unit (sig 0 unit " + self + "))", element, "star", "?10", "(sig 0 unit (sig 0 unit (snd (snd ?11))))", "(pair 0 unit (sig 0 unit (snd (snd ?11))) star (pair 0 unit (snd (snd ?11)) star (elim @D 0 #0 star star (snd (snd ?10)))))"},
+		// The motive, filled at once.
+		{"(pi 0 unit (data @D #1))", both, "?7", "?8", "(pi 0 unit (pi 0 unit (pi 0 (app 0 ?10 #1) ?10)))", "(lam 0 unit (elim @D 0 (pi 0 unit (pi 0 #1 #3)) star ?8 (app 0 ?9 #0)))"},
+		{"(pi 0 unit (data @D #1))", both, "?9", "?9", "(pi 0 unit (pi 0 unit (pi 0 (app 0 ?11 #1) ?12)))", "(lam 0 unit (elim @D 0 (pi 0 unit (pi 0 #1 #3)) star ?10 (app 0 ?10 #0)))"},
+		{"(pi 0 unit (data @D #1))", both, "?10", "?10", "(pi 0 unit (pi 0 unit (pi 0 (app 0 ?11 #1) ?11)))", "(lam 0 unit (elim @D 0 (pi 0 unit (pi 0 #1 #3)) star ?11 (app 0 ?11 #0)))"},
+		// Free variables of the Arg.
+		{"(pi 0 ?10 (data @D ?11))", parameter, "star", "star", "(pi 0 ?9 ?11)", "(lam 0 ?9 (elim @D 0 #1 star ?11 (app 0 star #0)))"},
+		{"(sig 0 unit (data @D ?10))", parameter, "star", "star", "(sig 0 unit ?9)", "(pair 0 unit ?9 star (elim @D 0 #1 star ?8 (snd star)))"},
+		{"(sig 0 unit (data @D ?11))", parameter, "star", "star", "(sig 0 unit ?11)", "(pair 0 unit ?11 star (elim @D 0 #1 star ?11 (snd star)))"},
+	} {
+		d := family("D", "unit", "unit")
+		d.Cons[0].Arg = farTerm(x.arg)
+		e := parse("(elim @D 0 " + x.motive + " star star star)")
+		h, code := table.Hypotheses(tableOf(d), e, 0, farTerm(x.p), farTerm(x.a))
+		if code != api.OK || !equal(h, farTerm(x.h)) {
+			t.Errorf("Hypotheses of %s by %s for %s, %s: %+v, %v, want %s", x.arg, x.motive, x.p, x.a, h, code, x.h)
+		}
+		v, code := table.Values(tableOf(d), e, 0, farTerm(x.p), farTerm(x.a))
+		if code != api.OK || !equal(v, farTerm(x.v)) {
+			t.Errorf("Values of %s by %s for %s, %s: %+v, %v, want %s", x.arg, x.motive, x.p, x.a, v, code, x.v)
 		}
 	}
 }
