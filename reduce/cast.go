@@ -78,7 +78,7 @@ func (m *machine) castCon(t *node) verdict {
 		return verdict{}
 	}
 	f, ok1 := m.family(from)
-	arg, ok2 := m.arg(from, c.n)
+	arg, ok2 := m.arg(from, c)
 	if !ok1 || !ok2 {
 		return verdict{}
 	}

@@ -83,7 +83,7 @@ func (m *machine) equalCons(t *node) verdict {
 		return fits(api.REqCon, func() *node { return m.leaf(api.TFalse) })
 	}
 	sort, code := table.Sort(m.table, data.s, data.u)
-	arg, ok := m.arg(data, a.n)
+	arg, ok := m.arg(data, a)
 	if code != api.OK || !ok {
 		return verdict{}
 	}

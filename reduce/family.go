@@ -7,17 +7,28 @@ import (
 	"tenet/term"
 )
 
-// declared reports whether the table has what a node names: a family, with as many levels, and with the constructor if the node is one.
-func (m *machine) declared(t *node) bool {
+// decl returns the family that a node names, nil if the table has none with as many levels.
+func (m *machine) decl(t *node) *api.Decl {
 	i := table.Find(m.table, t.s)
 	if i < 0 {
-		return false
+		return nil
 	}
 	d := &m.table.Decls[i]
 	if d.Kind != api.KData || d.Levels != len(t.u) {
-		return false
+		return nil
 	}
-	return t.op != api.TCon || t.n < len(d.Cons)
+	return d
+}
+
+// declared reports whether the table has what a node names: a family, with as many levels, and with the constructor if the node is one.
+func (m *machine) declared(t *node) bool {
+	d := m.decl(t)
+	return d != nil && (t.op != api.TCon || t.n < len(d.Cons))
+}
+
+// declaredArg returns the Arg of a constructor that is declared.
+func (m *machine) declaredArg(c *node) api.Term {
+	return m.decl(c).Cons[c.n].Arg
 }
 
 // values returns what the hypotheses of a constructor's method are filled with; false if the table makes none, or if they are too many nodes.
@@ -25,14 +36,15 @@ func (m *machine) values(t, c *node) (*node, bool) {
 	if !t.form {
 		return nil, false
 	}
+	// Values are filled into the motive, so nothing can stand for it.
+	motive := t.l[0].term()
 	e := api.Term{Op: t.op, N: t.n, S: t.s, U: t.u}
-	f := filling{by: copied(t.l), standIns: true}
+	f := filling{by: copied(t.l), standIn: unusedName(motive, m.declaredArg(c))}
 	for i := range t.l {
-		e.L = append(e.L, standFor(i))
+		e.L = append(e.L, standFor(f.standIn, i))
 		f.binds = append(f.binds, m.binds(t, i))
 	}
-	// Values are filled into the motive, so nothing can stand for it.
-	e.L[0] = t.l[0].term()
+	e.L[0] = motive
 	// In place of the eliminator's own parameter and element, which do not matter, there are those of the constructor.
 	last := len(t.l) - 1
 	copy(f.by[last-1:], c.l)
@@ -44,18 +56,25 @@ func (m *machine) values(t, c *node) (*node, bool) {
 	return out, out.size <= api.MaxTerm
 }
 
-// arg returns the type of the argument of a family's constructor, with a stand-in for the parameter.
-func (m *machine) arg(data *node, k int) (*node, bool) {
-	a, code := table.Arg(m.table, data.s, data.u, k, standFor(0))
+// argType is the type of the argument of a constructor, in which stand-ins with a name are the parameter.
+type argType struct {
+	typ     *node
+	standIn string
+}
+
+// arg returns the type of the argument of a constructor that is declared, in a family with its levels.
+func (m *machine) arg(data, c *node) (argType, bool) {
+	name := unusedName(m.declaredArg(c))
+	a, code := table.Arg(m.table, data.s, data.u, c.n, standFor(name, 0))
 	if code != api.OK {
-		return nil, false
+		return argType{}, false
 	}
-	return m.read(a), true
+	return argType{m.read(a), name}, true
 }
 
 // at returns the type of an argument for a parameter.
-func (m *machine) at(arg, parameter *node) *node {
-	return m.put(arg, filling{by: []*node{parameter}, standIns: true}, m.most)
+func (m *machine) at(arg argType, parameter *node) *node {
+	return m.put(arg.typ, filling{by: []*node{parameter}, standIn: arg.standIn}, m.most)
 }
 
 // family is what the table says of a family with levels.

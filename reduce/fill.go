@@ -1,20 +1,38 @@
 package reduce
 
-import "tenet/api"
+import (
+	"strconv"
 
-// filling says what is put in for the first free variables of a term, or for its stand-ins.
+	"tenet/api"
+	"tenet/term"
+)
+
+// filling says what is put in for the first free variables of a term, or for its stand-ins: constants that stand for parts of terms in what package table makes. So it need not copy these parts at each step, however large they are.
 type filling struct {
-	by       []*node
-	standIns bool
-	binds    []int // for stand-ins: how many of the binders around one of them are also those of what is put in
+	by      []*node
+	standIn string // the name of the stand-ins; empty if variables are filled
+	binds   []int  // for stand-ins: how many of the binders around one of them are also those of what is put in
 }
 
-// standIn is the name of the constants that stand for parts of terms in what package table makes. So it need not copy these parts at each step, however large they are.
-const standIn = "_.stand.in_of_reduce._"
+// standFor returns the stand-in with a name and a number.
+func standFor(name string, i int) api.Term {
+	return api.Term{Op: api.TConst, S: name, U: []api.Level{{Const: i}}}
+}
 
-// standFor returns the stand-in with a number.
-func standFor(i int) api.Term {
-	return api.Term{Op: api.TConst, S: standIn, U: []api.Level{{Const: i}}}
+// unusedName returns a name that none of some terms has. Stand-ins need such a one: tables and terms may have any names, so none can be kept for them.
+func unusedName(terms ...api.Term) string {
+	used := map[string]bool{}
+	for _, t := range terms {
+		for _, name := range term.Names(t) {
+			used[name] = true
+		}
+	}
+	for i := 0; ; i++ {
+		name := "_" + strconv.Itoa(i)
+		if !used[name] {
+			return name
+		}
+	}
 }
 
 // filled is term.Fill: the variable i of a term becomes by[i].
@@ -36,7 +54,7 @@ func (m *maker) put(t *node, f filling, most int) *node {
 			own := f.bindsOf(i)
 			return m.shifted(f.by[i], under-own, own), false
 		}
-		if !f.standIns && t.isVar() && t.n >= under {
+		if f.ofVariables() && t.isVar() && t.n >= under {
 			return m.renumbered(t, t.n-len(f.by)), true
 		}
 		return t, true
@@ -60,17 +78,21 @@ func (m *maker) growth(t *node, f filling, under int) int {
 
 // skips reports whether it is known that filling changes nothing in a term.
 func (f filling) skips(t *node, under int) bool {
-	return !f.standIns && t.free <= under
+	return f.ofVariables() && t.free <= under
+}
+
+func (f filling) ofVariables() bool {
+	return f.standIn == ""
 }
 
 // slot returns the place in f.by of what is put in for a node, or -1 if that is nothing.
 func (f filling) slot(t *node, under int) int {
 	i := -1
 	switch {
-	case f.standIns && t.op == api.TConst && t.s == standIn && len(t.u) == 1:
-		i = t.u[0].Const
-	case !f.standIns && t.op == api.TVar:
+	case f.ofVariables() && t.op == api.TVar:
 		i = t.n - under
+	case !f.ofVariables() && t.op == api.TConst && t.s == f.standIn:
+		i = t.u[0].Const
 	}
 	if i < 0 || i >= len(f.by) {
 		return -1
